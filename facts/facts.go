@@ -9,50 +9,93 @@ import (
 	"upshot/api"
 )
 
-// Tuple is so many constants as its name has terms, and empty strings behind them:
-// an array, so that it can be a map's key.
-type Tuple [api.MaxArity]string
+// Tuple is so many words as its name has terms, and zeros behind them: an array, so that it can be a map's key.
+type Tuple [api.MaxArity]Word
 
 // NewTuple makes a tuple of constants, MaxArity of them at most.
 func NewTuple(constants []string) Tuple {
 	var t Tuple
 	for i, constant := range constants {
-		// A tuple may be kept, and is not to hold on to the text that the constant came in.
-		t[i] = strings.Clone(constant)
+		t[i] = NewWord(constant)
 	}
 	return t
 }
 
 // Constants lists the tuple's constants, in memory of their own.
 func (t Tuple) Constants() []string {
-	size := 0
-	// No constant is empty, so the first empty string is the end.
-	for size < len(t) && t[size] != "" {
-		size++
+	var constants []string
+	for _, word := range t {
+		if word != 0 {
+			constants = append(constants, word.Text())
+		}
 	}
-	return slices.Clone(t[:size])
+	return constants
 }
 
 // Compare orders tuples by their first constants, then the second ones, and so on.
 func (t Tuple) Compare(other Tuple) int { return slices.Compare(t[:], other[:]) }
 
+// Fits tells whether the tuple has the constants of a pattern, which has a 0 where any will do.
+func (t Tuple) Fits(pattern Tuple) bool {
+	for i, word := range pattern {
+		if word != 0 && word != t[i] {
+			return false
+		}
+	}
+	return true
+}
+
 // Relation is the tuples of one name.
 type Relation map[Tuple]struct{}
+
+// One makes a relation of one tuple.
+func One(tuple Tuple) Relation { return Relation{tuple: {}} }
+
+// Has tells whether the tuple is in the relation.
+func (r Relation) Has(tuple Tuple) bool {
+	_, ok := r[tuple]
+	return ok
+}
 
 // Sorted lists the tuples of the relation in their order.
 func (r Relation) Sorted() []Tuple { return slices.SortedFunc(maps.Keys(r), Tuple.Compare) }
 
-// Store keeps a relation for each name that has a tuple.
+// Matching lists the tuples that have the constants of a pattern, in their order.
+func (r Relation) Matching(pattern Tuple) []Tuple {
+	var found []Tuple
+	for tuple := range r {
+		if tuple.Fits(pattern) {
+			found = append(found, tuple)
+		}
+	}
+	slices.SortFunc(found, Tuple.Compare)
+	return found
+}
+
+// Store keeps relations by their names.
 type Store map[string]Relation
 
-// Lay puts a fact into the store, if it is not there.
-func (s Store) Lay(name string, tuple Tuple) {
+// NewStore makes a store with an empty relation for each name.
+func NewStore(names []string) Store {
+	s := Store{}
+	for _, name := range names {
+		s[name] = Relation{}
+	}
+	return s
+}
+
+// Lay puts a fact into the store, and tells whether it was not there.
+func (s Store) Lay(name string, tuple Tuple) bool {
 	relation, ok := s[name]
 	if !ok {
 		relation = Relation{}
-		s[strings.Clone(name)] = relation
+		s[name] = relation
+	}
+	if relation.Has(tuple) {
+		return false
 	}
 	relation[tuple] = struct{}{}
+	return true
 }
 
 // Text writes all facts in their order, each as a line.
@@ -64,4 +107,10 @@ func (s Store) Text() string {
 		}
 	}
 	return text.String()
+}
+
+// Change is a fact that comes.
+type Change struct {
+	Name  string
+	Tuple Tuple
 }

@@ -2,6 +2,8 @@
 package program
 
 import (
+	"strings"
+
 	"upshot/api"
 	"upshot/syntax"
 )
@@ -14,7 +16,8 @@ func Read(text string) ([]syntax.Clause, api.Errno, int) {
 	if len(text) > api.MaxText {
 		return nil, api.ErrSize, api.MaxText
 	}
-	clauses, place, ok := syntax.Parse(text)
+	// The clauses are kept, and are not to hold on to the text that is handed in.
+	clauses, place, ok := syntax.Parse(strings.Clone(text))
 	if !ok {
 		return nil, api.ErrSyntax, place
 	}

@@ -106,6 +106,16 @@ func wordKind(word string) kind {
 	return name
 }
 
+// IsConstant tells whether the text is a constant, of whatever length.
+func IsConstant(text string) bool {
+	if text == "" || wordSize(text) < len(text) {
+		return false
+	}
+	k := wordKind(text)
+	// What may be a name may be a constant too.
+	return k == name || k == number
+}
+
 func hasCapital(word string) bool {
 	for i := range len(word) {
 		if isCapital(word[i]) {
