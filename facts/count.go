@@ -6,7 +6,9 @@ import (
 )
 
 // Count tells in how many ways something is so. It has 128 bits, which no count of ways can pass: a rule
-// has MaxBody*MaxArity variables at most, and there are fewer than 128 constants for each of them.
+// has MaxBody*MaxArity variables at most, and there are fewer than 128 constants for each of them, those of
+// MaxFacts base facts and of the heads of MaxClauses rules. Sums and differences on the way to a count may pass
+// them, above or below; but they wrap round, so the count itself comes out right.
 type Count struct {
 	high, low uint64
 }
@@ -18,6 +20,13 @@ func NewCount(number uint64) Count { return Count{low: number} }
 func (c Count) Plus(other Count) Count {
 	low, carry := bits.Add64(c.low, other.low, 0)
 	high, _ := bits.Add64(c.high, other.high, carry)
+	return Count{high: high, low: low}
+}
+
+// Minus takes a count away.
+func (c Count) Minus(other Count) Count {
+	low, borrow := bits.Sub64(c.low, other.low, 0)
+	high, _ := bits.Sub64(c.high, other.high, borrow)
 	return Count{high: high, low: low}
 }
 

@@ -4,7 +4,6 @@ package facts
 import (
 	"maps"
 	"slices"
-	"strings"
 
 	"upshot/api"
 )
@@ -70,47 +69,4 @@ func (r Relation) Matching(pattern Tuple) []Tuple {
 	}
 	slices.SortFunc(found, Tuple.Compare)
 	return found
-}
-
-// Store keeps relations by their names.
-type Store map[string]Relation
-
-// NewStore makes a store with an empty relation for each name.
-func NewStore(names []string) Store {
-	s := Store{}
-	for _, name := range names {
-		s[name] = Relation{}
-	}
-	return s
-}
-
-// Lay puts a fact into the store, and tells whether it was not there.
-func (s Store) Lay(name string, tuple Tuple) bool {
-	relation, ok := s[name]
-	if !ok {
-		relation = Relation{}
-		s[name] = relation
-	}
-	if relation.Has(tuple) {
-		return false
-	}
-	relation[tuple] = struct{}{}
-	return true
-}
-
-// Text writes all facts in their order, each as a line.
-func (s Store) Text() string {
-	var text strings.Builder
-	for _, name := range slices.Sorted(maps.Keys(s)) {
-		for _, tuple := range s[name].Sorted() {
-			text.WriteString(name + "(" + strings.Join(tuple.Constants(), ",") + ").\n")
-		}
-	}
-	return text.String()
-}
-
-// Change is a fact that comes.
-type Change struct {
-	Name  string
-	Tuple Tuple
 }

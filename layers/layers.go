@@ -11,6 +11,8 @@ import (
 type layer interface {
 	// fill lays all that follows by the layer's rules, while nothing of it is there, and lists it.
 	fill() []facts.Change
+	// carry takes up what has changed in what the layer stands above, and lists what it changes itself by that.
+	carry(came []facts.Change) []facts.Change
 	// support tells in how many ways a tuple of one of the layer's names follows.
 	support(name string, tuple facts.Tuple) facts.Count
 }
@@ -22,12 +24,15 @@ type common struct {
 	store facts.Store
 }
 
-// lay puts a fact of the layer into the store, and adds it to the changes.
-func (c *common) lay(changes []facts.Change, name string, tuple facts.Tuple) []facts.Change {
-	if !c.store.Lay(name, tuple) {
-		return changes
+// eachGain goes through the places in bodies whose literals hold by the shift for tuples for which they did not.
+func (c *common) eachGain(shift facts.Shift, see func(rule rules.Rule, place int, tuples facts.Relation)) {
+	for _, rule := range c.rules {
+		for place := range rule.Size() {
+			if tuples := rule.Gained(place, shift); len(tuples) > 0 {
+				see(rule, place, tuples)
+			}
+		}
 	}
-	return append(changes, facts.Change{Name: name, Tuple: tuple})
 }
 
 func newLayer(from program.Layer, store facts.Store) layer {

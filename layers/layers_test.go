@@ -1,6 +1,7 @@
 package layers
 
 import (
+	"slices"
 	"strings"
 	"testing"
 
@@ -75,7 +76,7 @@ func TestFillListsWhatItLays(t *testing.T) {
 	}
 }
 
-// spy is a layer that does nothing but look at what is there when it is its turn.
+// spy is a layer that does nothing but look at what is there, and at what came, when it is its turn.
 type spy struct {
 	store facts.Store
 	ahead string // a name that must be there by then
@@ -89,27 +90,45 @@ func (s spy) fill() []facts.Change {
 		text = s.adds
 	}
 	*s.seen = append(*s.seen, text)
-	s.store.Lay(s.adds, facts.Tuple{1})
-	return []facts.Change{{Name: s.adds, Tuple: facts.Tuple{1}}}
+	one := facts.NewTuple([]string{"1"})
+	s.store.Lay(s.adds, one)
+	return []facts.Change{{Name: s.adds, Tuple: one}}
+}
+
+func (s spy) carry(came []facts.Change) []facts.Change {
+	added := s.fill()
+	for _, change := range came {
+		(*s.seen)[len(*s.seen)-1] += change.Name
+	}
+	return added
 }
 
 func (s spy) support(string, facts.Tuple) facts.Count { return facts.Count{} }
 
+// spies makes a pipe of spies with these names.
+func spies(names []string, seen *[]string) *Pipe {
+	store := facts.NewStore(names)
+	pipe := &Pipe{}
+	ahead := ""
+	for _, name := range names {
+		pipe.layers = append(pipe.layers, spy{store: store, ahead: ahead, adds: name, seen: seen})
+		ahead = name
+	}
+	return pipe
+}
+
 // A layer begins when those ahead of it are done, however much comes through the pipe.
 func TestPipeGoesLayerByLayer(t *testing.T) {
-	names := strings.Split("abcdefgh", "")
 	for _, size := range []int{0, 1, room - 1, room, room + 1, 10 * room} {
 		var seen []string
-		store := facts.NewStore(names)
-		pipe := &Pipe{}
-		ahead := ""
-		for _, name := range names {
-			pipe.layers = append(pipe.layers, spy{store: store, ahead: ahead, adds: name, seen: &seen})
-			ahead = name
-		}
-		pipe.Fill(make([]facts.Change, size))
+		spies(strings.Split("abcdefgh", ""), &seen).Fill(make([]facts.Change, size))
 		if got := strings.Join(seen, " "); got != "a b c d e f g h" {
 			t.Errorf("with %d changes the layers go %q", size, got)
+		}
+		seen = nil
+		changes := spies(strings.Split("abcd", ""), &seen).Carry(make([]facts.Change, size))
+		if got := strings.Join(seen, " "); got != "a ba cab dabc" || len(changes) != size+4 {
+			t.Errorf("with %d changes the layers go %q, and list %d changes", size, got, len(changes))
 		}
 	}
 }
@@ -117,16 +136,12 @@ func TestPipeGoesLayerByLayer(t *testing.T) {
 // What comes to a layer goes on from it, and then what it adds.
 func TestWorkPassesOn(t *testing.T) {
 	var seen []string
-	came := []facts.Change{{Name: "x"}, {Name: "y"}}
+	came := []facts.Change{{Name: "x"}, {Name: "y", Gone: true}}
 	from, to := make(chan facts.Change, room), make(chan facts.Change, room)
 	send(from, came)
-	work(spy{store: facts.Store{}, adds: "a", seen: &seen}, from, to)
-	var names string
-	for _, change := range receive(to) {
-		names += change.Name
-	}
-	if names != "xya" {
-		t.Errorf("a layer passes on %q", names)
+	work(spy{store: facts.Store{}, adds: "a", seen: &seen}, layer.carry, from, to)
+	if got := told(receive(to)); got != "x() -y() a(1)" || seen[0] != "axy" {
+		t.Errorf("a layer passes on %q, and sees %q", got, seen)
 	}
 }
 
@@ -141,6 +156,120 @@ func TestPipeFillsAndSupports(t *testing.T) {
 		words := strings.Fields(fact)
 		if got := pipe.Support(words[0], facts.NewTuple(words[1:])).Int(); got != want {
 			t.Errorf("the support of %s is %d, want %d", fact, got, want)
+		}
+	}
+}
+
+// told writes changes as they come.
+func told(changes []facts.Change) string {
+	var texts []string
+	for _, c := range changes {
+		text := c.Name + "(" + strings.Join(c.Tuple.Constants(), ",") + ")"
+		if c.Gone {
+			text = "-" + text
+		}
+		texts = append(texts, text)
+	}
+	return strings.Join(texts, " ")
+}
+
+// changesOf reads changes like "e,a,b -e,b,c".
+func changesOf(texts string) []facts.Change {
+	var changes []facts.Change
+	for _, text := range strings.Fields(texts) {
+		words := strings.Split(strings.TrimPrefix(text, "-"), ",")
+		changes = append(changes, facts.Change{Name: words[0], Tuple: facts.NewTuple(words[1:]), Gone: text[0] == '-'})
+	}
+	return changes
+}
+
+// What is carried through the layers is listed once, and is what has changed in the store.
+func TestCarry(t *testing.T) {
+	const (
+		paths  = "p(X,Y):-e(X,Y). p(X,Z):-p(X,Y),e(Y,Z). e(a,b). e(b,c)."
+		ring   = "p(X):-q(X). q(X):-p(X). p(X):-n(X). q(X):-m(X). r(X):-k(X),!p(X). n(a). m(a). n(b). k(a). k(b)."
+		counts = "s(X):-e(X,Y),!n(Y). u(X):-s(X),e(X,X). v(X):-e(X,Y),!u(X). e(a,b). e(a,c)."
+	)
+	for _, c := range []struct{ text, changes, want string }{
+		{paths, "", ""},
+		{paths, "e,c,a", "e(c,a) p(a,a) p(b,a) p(b,b) p(c,a) p(c,b) p(c,c)"},
+		{paths, "-e,a,b", "-e(a,b) -p(a,b) -p(a,c)"},
+		{paths, "-e,a,b e,a,c", "-e(a,b) e(a,c) -p(a,b)"},
+		{paths, "-e,b,c e,c,b", "-e(b,c) e(c,b) -p(a,c) -p(b,c) p(c,b)"},
+		{ring, "-n,a", "-n(a)"},
+		{ring, "-n,a -m,a", "-m(a) -n(a) -p(a) -q(a) r(a)"},
+		{ring, "-n,b m,c k,c", "k(c) m(c) -n(b) -p(b) p(c) -q(b) q(c) r(b)"},
+		{ring, "-n,b m,b", "m(b) -n(b)"},
+		{counts, "-e,a,b", "-e(a,b)"},
+		{counts, "n,b", "n(b)"},
+		{counts, "n,b n,c", "n(b) n(c) -s(a)"},
+		{counts, "n,b -e,a,c", "-e(a,c) n(b) -s(a)"},
+		{counts, "e,a,a", "e(a,a) u(a) -v(a)"},
+		{counts, "e,a,a n,b", "e(a,a) n(b) u(a) -v(a)"},
+		{counts, "e,a,a n,a n,b n,c", "e(a,a) n(a) n(b) n(c) -s(a)"},
+	} {
+		pipe, store, base := pipeOf(t, c.text)
+		pipe.Fill(base)
+		first := store.Text()
+		changes := changesOf(c.changes)
+		store.Make(changes)
+		shift := facts.NewShift(changes)
+		got := pipe.Carry(changes)
+		slices.SortFunc(got, facts.Change.Compare)
+		if told(got) != c.want {
+			t.Errorf("in %q the changes %q make %q, want %q", c.text, c.changes, told(got), c.want)
+		}
+		store.Make(shift.Reversed().Changes())
+		back := pipe.Carry(shift.Reversed().Changes())
+		slices.SortFunc(back, facts.Change.Compare)
+		if reversed := facts.NewShift(back).Reversed().Changes(); len(reversed) != len(got) || store.Text() != first {
+			t.Errorf("in %q the way back from the changes %q makes %q", c.text, c.changes, told(back))
+		}
+	}
+}
+
+// A name that stands above itself is taken away where it has lost one of its ways, and what still follows is laid back.
+func TestTakesTooMuchAndLaysBack(t *testing.T) {
+	pipe, store, base := pipeOf(t, "p(X,Y):-e(X,Y). p(X,Z):-p(X,Y),e(Y,Z). e(a,b). e(b,c). e(a,c). e(c,d). e(x,y).")
+	pipe.Fill(base)
+	r := pipe.byName["p"].(*reaching)
+	shift := facts.NewShift(changesOf("-e,b,c"))
+	store.TakeAll(shift.Gone)
+	taken := r.take(shift)
+	if got, want := taken.Text(), "p(a,c).\np(a,d).\np(b,c).\np(b,d).\n"; got != want {
+		t.Errorf("%q is taken away, want %q", got, want)
+	}
+	still := r.still(taken)
+	if got, want := still.Text(), "p(a,c).\n"; got != want {
+		t.Errorf("%q follows in one step from what is left, want %q", got, want)
+	}
+	if got, want := r.lay(still).Text(), "p(a,c).\np(a,d).\n"; got != want {
+		t.Errorf("%q is laid back, want %q", got, want)
+	}
+}
+
+// A name that does not stand above itself has no support left for what does not follow.
+func TestSettle(t *testing.T) {
+	pipe, store, base := pipeOf(t, "s(X):-e(X,Y),!n(Y). e(a,b). e(a,c). e(b,c).")
+	pipe.Fill(base)
+	c := pipe.byName["s"].(*counting)
+	for _, step := range []struct {
+		changes string
+		a, b    uint64
+	}{{"", 2, 1}, {"n,c", 1, 0}, {"-e,a,b n,d", 0, 0}, {"e,b,d e,a,d", 0, 0}, {"-n,d", 1, 1}, {"-n,c", 2, 2}} {
+		changes := changesOf(step.changes)
+		store.Make(changes)
+		pipe.Carry(changes)
+		supports := 0
+		for text, want := range map[string]uint64{"a": step.a, "b": step.b} {
+			tuple := facts.NewTuple([]string{text})
+			if got := c.supports[tuple]; got != facts.NewCount(want) || store.Has("s", tuple) != (want > 0) {
+				t.Errorf("with %q the support of s(%s) is %v, want %d", step.changes, text, got, want)
+			}
+			supports += int(min(want, 1))
+		}
+		if len(c.supports) != supports {
+			t.Errorf("with %q there are %d supports kept, want %d", step.changes, len(c.supports), supports)
 		}
 	}
 }

@@ -31,6 +31,16 @@ func New(list []program.Layer, store facts.Store) *Pipe {
 
 // Fill lays all that follows, when the store has the base facts alone, and these are what came.
 func (p *Pipe) Fill(base []facts.Change) {
+	// As all that there is has only just come, a layer finds it in the store.
+	p.run(base, func(l layer, _ []facts.Change) []facts.Change { return l.fill() })
+}
+
+// Carry takes changes of base facts, which have been made in the store, through the layers. It lists these and what
+// has changed by them.
+func (p *Pipe) Carry(base []facts.Change) []facts.Change { return p.run(base, layer.carry) }
+
+// run lets each layer do its part, when those ahead of it have, and lists all that came through the pipe.
+func (p *Pipe) run(base []facts.Change, part func(layer, []facts.Change) []facts.Change) []facts.Change {
 	var ended sync.WaitGroup
 	ended.Add(1 + len(p.layers))
 	front := make(chan facts.Change, room)
@@ -43,19 +53,20 @@ func (p *Pipe) Fill(base []facts.Change) {
 		from, to := last, make(chan facts.Change, room)
 		go func() {
 			defer ended.Done()
-			work(l, from, to)
+			work(l, part, from, to)
 		}()
 		last = to
 	}
-	receive(last)
+	changes := receive(last)
 	ended.Wait()
+	return changes
 }
 
-// work waits for all that comes from the layers ahead, for not before then are they done. As all that there is
-// has only just come, the layer finds it in the store, and what came has but to go on.
-func work(l layer, from <-chan facts.Change, to chan<- facts.Change) {
+// work waits for all that comes from the layers ahead, for not before then are they done; so what came goes on
+// no sooner than what the layer adds itself.
+func work(l layer, part func(layer, []facts.Change) []facts.Change, from <-chan facts.Change, to chan<- facts.Change) {
 	came := receive(from)
-	send(to, append(came, l.fill()...))
+	send(to, append(came, part(l, came)...))
 }
 
 func receive(from <-chan facts.Change) []facts.Change {

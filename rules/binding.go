@@ -46,10 +46,10 @@ func (a atom) variables() variables {
 	return vs
 }
 
-func variablesOf(literals []literal) variables {
+func variablesOf(parts []part) variables {
 	var vs variables
-	for _, l := range literals {
-		vs |= l.variables()
+	for _, p := range parts {
+		vs |= p.variables()
 	}
 	return vs
 }

@@ -1,15 +1,26 @@
 package rules
 
-import "upshot/facts"
+import (
+	"iter"
+	"maps"
+
+	"upshot/facts"
+)
 
 // Join finds all bindings by which a rule's body holds, literal by literal. Bindings that differ in nothing
 // that is needed behind a literal are one from there on, with a count: else they would be too many.
 type Join struct {
-	store facts.Store
 	head  atom
 	first atom
 	start sieve
 	steps []step
+	cost  int
+}
+
+// part is a literal of a body, and the relation that a join looks at for it.
+type part struct {
+	literal
+	view facts.View
 }
 
 // rows is the tuples of a literal as a step asks for them: by the constants of the variables that it knows,
@@ -19,26 +30,32 @@ type rows map[binding]map[binding]uint64
 // bag is bindings, and how many of all the rule's variables each stands for.
 type bag map[binding]facts.Count
 
-// From makes a join that begins with the literal at a place of the body, which is not negated.
-func (r Rule) From(place int, store facts.Store) *Join {
-	var others []literal
-	for i, l := range r.body {
-		if i != place {
-			others = append(others, l)
-		}
-	}
-	return r.join(r.body[place].atom, others, store)
+// From makes a join that begins with the literal at a place of the body. It looks at the literals that stand
+// ahead of that one in the body in one scene, and at those behind it in another.
+func (r Rule) From(place int, ahead, behind facts.Scene) *Join {
+	others := append(parts(r.body[:place], ahead), parts(r.body[place+1:], behind)...)
+	return r.join(r.body[place].atom, others)
 }
 
-func (r Rule) join(first atom, others []literal, store facts.Store) *Join {
+// fromHead makes a join that begins with the head, so it finds by which ways a tuple does follow.
+func (r Rule) fromHead(scene facts.Scene) *Join { return r.join(r.head, parts(r.body, scene)) }
+
+// whole makes a join that begins with nothing: so the one tuple without constants is all that it is to be given.
+func (r Rule) whole(scene facts.Scene) *Join { return r.join(atom{}, parts(r.body, scene)) }
+
+func parts(literals []literal, scene facts.Scene) []part {
+	var list []part
+	for _, l := range literals {
+		list = append(list, part{literal: l, view: scene.View(l.name)})
+	}
+	return list
+}
+
+func (r Rule) join(first atom, others []part) *Join {
 	head := r.head.variables()
 	start, rest := newSieve(first.variables(), others, head)
-	steps, _ := cheapest(start.live, rest, head)
-	for i := range steps {
-		steps[i].rows = rows{}
-		steps[i].take(store[steps[i].literal.name])
-	}
-	return &Join{store: store, head: r.head, first: first, start: start, steps: steps}
+	steps, cost := cheapest(start.live, rest, head)
+	return &Join{head: r.head, first: first, start: start, steps: steps, cost: cost}
 }
 
 // First is the name of the atom that the join begins with.
@@ -47,18 +64,19 @@ func (j *Join) First() string { return j.first.name }
 // Head is the name of the rule's head.
 func (j *Join) Head() string { return j.head.name }
 
-// Take tells the join of tuples of a name that the store did not have when the join was made.
-func (j *Join) Take(name string, tuples facts.Relation) {
+// Take tells the join of facts that have just been laid.
+func (j *Join) Take(laid facts.Store) {
 	for _, s := range j.steps {
-		if s.literal.name == name {
-			s.take(tuples)
+		// Rows that are not there yet will be made of all that is in view by then.
+		if s.rows != nil {
+			s.take(maps.Keys(laid[s.part.name]))
 		}
 	}
 }
 
-func (s step) take(tuples facts.Relation) {
+func (s step) take(tuples iter.Seq[facts.Tuple]) {
 	for tuple := range tuples {
-		b, ok := s.literal.match(tuple)
+		b, ok := s.part.match(tuple)
 		if !ok {
 			continue
 		}
@@ -75,11 +93,11 @@ func (j *Join) Heads(tuples facts.Relation) map[facts.Tuple]facts.Count {
 	found := bag{}
 	for tuple := range tuples {
 		if b, ok := j.first.match(tuple); ok {
-			j.lay(found, j.start, b, facts.NewCount(1))
+			found.lay(j.start, b, facts.NewCount(1))
 		}
 	}
-	for _, s := range j.steps {
-		found = j.spread(found, s)
+	for i := range j.steps {
+		found = j.steps[i].spread(found)
 	}
 	heads := map[facts.Tuple]facts.Count{}
 	for b, count := range found {
@@ -88,23 +106,30 @@ func (j *Join) Heads(tuples facts.Relation) map[facts.Tuple]facts.Count {
 	return heads
 }
 
-func (j *Join) spread(from bag, s step) bag {
+func (s *step) spread(from bag) bag {
 	found := bag{}
+	if len(from) == 0 {
+		return found
+	}
+	if s.rows == nil {
+		s.rows = rows{}
+		s.take(s.part.view.All())
+	}
 	for b, count := range from {
 		for row, times := range s.rows[b.only(s.known)] {
-			j.lay(found, s.sieve, b.and(row), count.Times(times))
+			found.lay(s.sieve, b.and(row), count.Times(times))
 		}
 	}
 	return found
 }
 
 // lay adds a binding to the bag, if it passes the sieve.
-func (j *Join) lay(into bag, s sieve, b binding, count facts.Count) {
+func (found bag) lay(s sieve, b binding, count facts.Count) {
 	for _, ask := range s.asks {
-		if j.store[ask.name].Has(ask.tuple(b)) == ask.negated {
+		if ask.view.Has(ask.tuple(b)) == ask.negated {
 			return
 		}
 	}
 	b = b.only(s.live)
-	into[b] = into[b].Plus(count)
+	found[b] = found[b].Plus(count)
 }

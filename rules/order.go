@@ -5,26 +5,26 @@ import "slices"
 // step is what a join does with one literal: each binding is spread to as many as there are tuples that agree with it.
 type step struct {
 	sieve
-	literal literal
-	known   variables // those of the literal that are bound ahead of the step
-	fresh   variables // those that it binds, and that are needed behind it
-	rows    rows
+	part  part
+	known variables // those of the literal that are bound ahead of the step
+	fresh variables // those that it binds, and that are needed behind it
+	rows  rows
 }
 
 // sieve is what bindings must pass behind a step, and what is kept of them.
 type sieve struct {
-	asks []literal // whose variables are all bound now
+	asks []part    // whose variables are all bound now
 	live variables // what is still needed: the variables of the head, and of the literals behind
 }
 
 // newSieve makes the sieve for where some variables are bound, and gives the literals that are left behind it.
-func newSieve(bound variables, literals []literal, head variables) (sieve, []literal) {
-	var asks, rest []literal
-	for _, l := range literals {
-		if l.variables()&^bound == 0 {
-			asks = append(asks, l)
+func newSieve(bound variables, parts []part, head variables) (sieve, []part) {
+	var asks, rest []part
+	for _, p := range parts {
+		if p.variables()&^bound == 0 {
+			asks = append(asks, p)
 		} else {
-			rest = append(rest, l)
+			rest = append(rest, p)
 		}
 	}
 	return sieve{asks: asks, live: bound & (head | variablesOf(rest))}, rest
@@ -32,7 +32,7 @@ func newSieve(bound variables, literals []literal, head variables) (sieve, []lit
 
 // cheapest finds the steps through the rest of a rule's literals that have the least to do, and how much that is.
 // The order makes no odds to what is found, but long rules would not come to an end in any other.
-func cheapest(live variables, rest []literal, head variables) ([]step, int) {
+func cheapest(live variables, rest []part, head variables) ([]step, int) {
 	var best []step
 	least := 0
 	for i, next := range rest {
@@ -51,12 +51,12 @@ func cheapest(live variables, rest []literal, head variables) ([]step, int) {
 }
 
 // newStep makes the step for one literal of the rest, and gives the literals that are left behind it.
-func newStep(live variables, rest []literal, chosen int, head variables) (step, []literal) {
+func newStep(live variables, rest []part, chosen int, head variables) (step, []part) {
 	others := slices.Delete(slices.Clone(rest), chosen, chosen+1)
 	own := rest[chosen].variables()
 	fresh := own & (head | variablesOf(others)) &^ live
 	behind, left := newSieve(live|fresh, others, head)
-	return step{sieve: behind, literal: rest[chosen], known: own & live, fresh: fresh}, left
+	return step{sieve: behind, part: rest[chosen], known: own & live, fresh: fresh}, left
 }
 
 // price is about how many bindings there can be of some variables, with 32 constants for each:

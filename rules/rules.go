@@ -59,6 +59,9 @@ func newAtom(from syntax.Atom, numbers map[string]int) atom {
 // Name is the name of the rule's head.
 func (r Rule) Name() string { return r.head.name }
 
+// Size is how many literals the body has.
+func (r Rule) Size() int { return len(r.body) }
+
 // Places lists the places in the body of atoms that are not negated, and have one of the names.
 func (r Rule) Places(names map[string]struct{}) []int {
 	var places []int
@@ -70,9 +73,18 @@ func (r Rule) Places(names map[string]struct{}) []int {
 	return places
 }
 
+// Gained gives the tuples with which the literal at a place of the body holds by a shift, and did not before.
+func (r Rule) Gained(place int, shift facts.Shift) facts.Relation {
+	l := r.body[place]
+	if l.negated {
+		return shift.Gone[l.name]
+	}
+	return shift.Came[l.name]
+}
+
 // Heads gives the tuples that follow by the rule from the store, and in how many ways each does.
 func (r Rule) Heads(store facts.Store) map[facts.Tuple]facts.Count {
-	return r.join(atom{}, r.body, store).Heads(facts.One(facts.Tuple{}))
+	return r.whole(store.Now()).Heads(facts.One(facts.Tuple{}))
 }
 
 // Ways tells in how many ways a tuple follows by the rule from the store.
@@ -83,6 +95,22 @@ func (r Rule) Ways(tuple facts.Tuple, store facts.Store) facts.Count {
 	}
 	// With constants in the places of variables, far less is to be gone through.
 	return r.with(constants).Heads(store)[tuple]
+}
+
+// Still gives those of some tuples that follow by the rule from the store.
+func (r Rule) Still(tuples facts.Relation, store facts.Store) facts.Relation {
+	join, from := r.fromHead(store.Now()), tuples
+	// Of many tuples it is less work to find all that follows than to look behind each of them.
+	if whole := r.whole(store.Now()); whole.cost/max(1, len(tuples)) < join.cost/price(r.head.variables()) {
+		join, from = whole, facts.One(facts.Tuple{})
+	}
+	still := facts.Relation{}
+	for tuple := range join.Heads(from) {
+		if tuples.Has(tuple) {
+			still[tuple] = struct{}{}
+		}
+	}
+	return still
 }
 
 // with is the rule with constants in the places of their variables.

@@ -46,3 +46,39 @@ func TestLoadsAtTheSameTime(t *testing.T) {
 	}
 	group.Wait()
 }
+
+// When Apply answers, all that it has set going is at its end.
+func TestApplyLeavesNothingRunning(t *testing.T) {
+	before := runtime.NumGoroutine()
+	engine := load(t, deep)
+	for range 200 {
+		engine.Apply(changesOf("a(3) -a(1)")...)
+		engine.Apply(changesOf("-a(3) a(1)")...)
+		engine.Apply()
+		engine.Apply(changesOf("a(3) b(3)")...)
+	}
+	for range 1000 {
+		if runtime.NumGoroutine() <= before {
+			return
+		}
+		time.Sleep(time.Millisecond)
+	}
+	t.Errorf("there are %d goroutines, and were %d before", runtime.NumGoroutine(), before)
+}
+
+// Engines that are at work at the same time have nothing to do with one another.
+func TestAppliesAtTheSameTime(t *testing.T) {
+	var group sync.WaitGroup
+	for range 8 {
+		group.Add(1)
+		go func() {
+			defer group.Done()
+			engine, _, _ := upshot.Load(deep)
+			for range 50 {
+				checkApply(t, engine, "a(3) -a(1)", "-a(1) a(3) -b(1) b(3)")
+				checkApply(t, engine, "-a(3) a(1)", "a(1) -a(3) b(1) -b(3)")
+			}
+		}()
+	}
+	group.Wait()
+}

@@ -334,8 +334,8 @@ func atomOf(text string) testAtom {
 	return testAtom{name: name, terms: strings.Split(terms, ",")}
 }
 
-// Rules by which names reach themselves and one another, over edges made by chance.
-func TestReachingMadeByChance(t *testing.T) {
+// reachingProgram makes a program of rules by which names reach themselves and one another, over edges made by chance.
+func reachingProgram(random *rand.Rand) []testClause {
 	rules := []testClause{
 		clauseOf("p(X,Z)", "p(X,Y)", "e(Y,Z)"),
 		clauseOf("p(X,Z)", "p(X,Y)", "p(Y,Z)"),
@@ -354,17 +354,21 @@ func TestReachingMadeByChance(t *testing.T) {
 		clauseOf("h(X,Y)", "p(X,Y)", "!g(Y)"),
 		clauseOf("h(X,Z)", "h(X,Y)", "h(Y,Z)", "!s(X,Y,Z)"),
 	}
+	clauses := []testClause{clauseOf("p(X,Y)", "e(X,Y)")}
+	for _, i := range random.Perm(len(rules))[:1+random.IntN(7)] {
+		clauses = append(clauses, rules[i])
+	}
+	for range 2 + random.IntN(7) {
+		clauses = append(clauses, testClause{head: testAtom{"e", []string{string("123x"[random.IntN(4)]), string("123x"[random.IntN(4)])}}})
+	}
+	return clauses
+}
+
+func TestReachingMadeByChance(t *testing.T) {
 	random := rand.New(rand.NewPCG(3, 4))
 	var y tally
 	for range 1500 {
-		clauses := []testClause{clauseOf("p(X,Y)", "e(X,Y)")}
-		for _, i := range random.Perm(len(rules))[:1+random.IntN(7)] {
-			clauses = append(clauses, rules[i])
-		}
-		for range 2 + random.IntN(7) {
-			clauses = append(clauses, testClause{head: testAtom{"e", []string{string("123x"[random.IntN(4)]), string("123x"[random.IntN(4)])}}})
-		}
-		y.try(t, random, clauses)
+		y.try(t, random, reachingProgram(random))
 	}
 	y.check(t, 1000, 50, 500)
 }

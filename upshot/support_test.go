@@ -167,3 +167,40 @@ func TestGreatSupports(t *testing.T) {
 		}
 	}
 }
+
+// triples lists changes of d that bring so many constants into what full makes.
+func triples(constants int, gone bool) []api.Change {
+	var changes []api.Change
+	list := letters(constants)
+	for i := 0; i < constants; i += 3 {
+		changes = append(changes, api.Change{Name: "d", Args: list[i : i+3], Gone: gone})
+	}
+	return changes
+}
+
+// Supports above 2^63 - 1 come and go: what is kept of them is not what is told.
+func TestGreatSupportsComeAndGo(t *testing.T) {
+	engine := load(t, full(0)+"q(a):-p(A,B,C),p(D,E,F),p(G,H,I),p(J,K,L).q(X):-n(X).r(a):-p(A,B,C),p(D,E,F),p(G,H,I),!d(A,D,G).")
+	r := func(n int) int { return power(n, 9) - n/3*power(n, 6) }
+	for _, c := range []struct {
+		changes []api.Change
+		told, q int
+		r       int
+	}{
+		{triples(36, false), 12 + power(36, 3) + 2, power(36, 12), r(36)},
+		{triples(39, false), 1 + power(39, 3) - power(36, 3), math.MaxInt64, r(39)},
+		{changesOf("n(a) n(b)"), 3, math.MaxInt64, r(39)},
+		{triples(39, false)[12:], 0, math.MaxInt64, r(39)},
+		{append(triples(39, true), triples(33, false)...), 2 + power(39, 3) - power(33, 3), power(33, 12) + 1, r(33)},
+		{changesOf("-n(a)"), 1, power(33, 12), r(33)},
+		{triples(39, false), 2 + power(39, 3) - power(33, 3), math.MaxInt64, r(39)},
+		{append(changesOf("d(a,c,b) n(a)"), changeOf("-d(a,b,c)")), 3, math.MaxInt64, r(39)},
+		{append(triples(39, true), changeOf("-d(a,c,b)")), 13 + power(39, 3) + 1, 1, 0},
+		{changesOf("-n(a) -n(b)"), 4, 0, 0},
+	} {
+		checkCount(t, engine, c.changes, c.told)
+		checkSupport(t, engine, "q", []string{"a"}, c.q, api.OK)
+		checkSupport(t, engine, "r", []string{"a"}, c.r, api.OK)
+	}
+	checkDump(t, engine, "")
+}

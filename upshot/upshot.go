@@ -62,7 +62,19 @@ func tupleOf(atom syntax.Atom) facts.Tuple {
 }
 
 // Apply makes changes, and tells what has changed by them (P4).
-func (e *Engine) Apply(changes ...api.Change) ([]api.Change, api.Errno, int) { return nil, api.OK, 0 }
+func (e *Engine) Apply(changes ...api.Change) ([]api.Change, api.Errno, int) {
+	for place, change := range changes {
+		if fault := e.check(change); fault != api.OK {
+			return nil, fault, place
+		}
+	}
+	base := e.baseChanges(changes)
+	if e.baseSize()+growth(base) > api.MaxFacts {
+		return nil, api.ErrFull, len(changes)
+	}
+	e.store.Make(base)
+	return told(e.pipe.Carry(base)), api.OK, len(changes)
+}
 
 // Query tells the tuples of a name (P5).
 func (e *Engine) Query(name string, args ...string) ([][]string, api.Errno) {
@@ -101,6 +113,15 @@ func patternOf(args []string) (facts.Tuple, bool) {
 
 func isConstant(arg string) bool { return len(arg) <= api.MaxWord && syntax.IsConstant(arg) }
 
+func areConstants(args []string) bool {
+	for _, arg := range args {
+		if !isConstant(arg) {
+			return false
+		}
+	}
+	return true
+}
+
 // Support tells by how many ways a tuple follows (P6).
 func (e *Engine) Support(name string, args ...string) (int, api.Errno) {
 	known, ok := e.names[name]
@@ -111,11 +132,8 @@ func (e *Engine) Support(name string, args ...string) (int, api.Errno) {
 		return 0, api.ErrDerived
 	case len(args) != known.Arity:
 		return 0, api.ErrArity
-	}
-	for _, arg := range args {
-		if !isConstant(arg) {
-			return 0, api.ErrSyntax
-		}
+	case !areConstants(args):
+		return 0, api.ErrSyntax
 	}
 	return e.pipe.Support(name, facts.NewTuple(args)).Int(), api.OK
 }
